@@ -1,0 +1,101 @@
+"""What several tests use: values of every kind, and books to try things with."""
+
+import itertools
+import random
+
+from refundtrees.books import Book
+
+
+class Everything:
+    """Says that it is equal to anything, so that comparing alone is no check."""
+
+    def __eq__(self, other):
+        return True
+
+    def __hash__(self):
+        return 0
+
+
+class Nothing:
+    """Cannot be compared, so that comparing at all is seen."""
+
+    def __eq__(self, other):
+        raise AssertionError("compared")
+
+    def __hash__(self):
+        raise AssertionError("hashed")
+
+
+def odd_values():
+    """Values that are neither a number, a word, a list nor a tuple."""
+    return [
+        None, True, False, 1.0, 2.5, 1j, b"a", bytearray(b"a"), {}, {"a": 1}, set(), {"a"}, frozenset(["a"]),
+        range(2), iter([]), object(), Everything(), Nothing(), len, int, ValueError("a"),
+    ]
+
+
+def values_but_numbers():
+    return odd_values() + ["", "1", "a", [], [1], (), (1,)]
+
+
+def values_but_words():
+    return odd_values() + ["", "A", "1", "ab1", "abcdefghi", [], ["a"], (), ("a",), 0, 1]
+
+
+def values_but_rows():
+    return odd_values() + ["", "a", "ab", 0, 1, 12]
+
+
+NAMES = list("abcdefghijkl")
+
+
+def flat(many, tier=1):
+    """The first so many skills, all of one tier."""
+    return [(name, tier) for name in NAMES[:many]]
+
+
+FULL = {
+    "skills": [("a", 1), ("b", 1), ("c", 2), ("d", 3)],
+    "points": 5,
+    "needs": [(2, 1), (4, 3)],
+    "wants": [("all", "c", ("a", "b")), ("any", "d", ("c", "a")), ("count", "d", ("a", "b", "c"), 2)],
+    "bars": [("b", "a"), ("c", "d")],
+    "gives": [("d", 3), ("a", 1)],
+    "prices": [("c", 0), ("a", 99)],
+    "reset": 7,
+}
+
+
+def full_book():
+    return Book(**FULL)
+
+
+def all_builds(names):
+    """Every tuple of unlike names in their order."""
+    return [build for size in range(len(names) + 1) for build in itertools.combinations(names, size)]
+
+
+def random_book(seed):
+    """A book of two to five skills with some of everything; the same one for the same seed."""
+    dice = random.Random(seed)
+    names = NAMES[: dice.randint(2, 5)]
+    tiers = sorted(dice.randint(1, 4) for _ in names)
+    wants = []
+    for _ in range(dice.randint(0, 3)):
+        skill = dice.choice(names)
+        others = [name for name in names if name != skill]
+        picked = tuple(dice.sample(others, dice.randint(1, len(others))))
+        kind = dice.choice(["all", "any", "count"])
+        many = (dice.randint(1, len(picked)),) if kind == "count" else ()
+        wants.append((kind, skill, picked, *many))
+    pairs = list(itertools.combinations(names, 2))
+    return Book(
+        list(zip(names, tiers)),
+        dice.randint(0, 5),
+        needs=[(tier, dice.randint(0, 2)) for tier in (2, 3, 4) if dice.random() < 0.7],
+        wants=wants,
+        bars=dice.sample(pairs, dice.randint(0, 1)),
+        gives=[(name, dice.randint(1, 3)) for name in names if dice.random() < 0.2],
+        prices=[(name, dice.randint(0, 9)) for name in names if dice.random() < 0.5],
+        reset=dice.choice([None, 0, 3]),
+    )
