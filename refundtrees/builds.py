@@ -2,7 +2,7 @@
 
 from refundtrees.errors import NoBuild
 from refundtrees.rules import is_held
-from refundtrees.words import are_unlike
+from refundtrees.words import are_unlike, is_one_of
 
 
 def is_build(book, value):
@@ -78,8 +78,7 @@ class Build:
         return Build(self._book, [name for name in beside if name not in self._skills])
 
     def __contains__(self, x):
-        # Only texts are compared: another value may say that it is equal to anything.
-        return isinstance(x, str) and x in self._skills
+        return is_one_of(self._skills, x)
 
     def __len__(self):
         return len(self._skills)
