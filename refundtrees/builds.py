@@ -1,7 +1,7 @@
 """Builds: tuples of unlike skills of a book, in its order, and builds as values."""
 
 from refundtrees.errors import NoBuild
-from refundtrees.rules import is_held
+from refundtrees.rules import Rules
 from refundtrees.words import are_unlike, is_one_of
 
 
@@ -46,7 +46,8 @@ class Build:
 
     def is_good(self):
         """Whether the build holds."""
-        return is_held(self._book, self._skills)
+        rules = Rules(self._book)
+        return rules.is_good(rules.mask_of(self._skills))
 
     def _beside(self, other):
         if not isinstance(other, Build):

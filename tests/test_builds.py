@@ -7,6 +7,7 @@ from unittest import mock
 from refundtrees.books import Book
 from refundtrees.builds import Build, build_of, is_build
 from refundtrees.errors import NoBuild
+from tests_again import holds
 from tests_kit import all_builds, flat, full_book, odd_values, random_book
 
 NO_BUILDS = [
@@ -251,23 +252,6 @@ class JoinedTest(unittest.TestCase):
             with self.assertRaises(NoBuild) as caught:
                 call()
             self.assertIs(caught.exception.build, beside)
-
-
-def holds(book, build):
-    """[2] once more, read straight off the document, to hold the package against."""
-    tiers = dict(book.skills())
-    needs = dict(book.needs())
-    taken = set(build)
-    for skill in build:
-        if sum(tiers[name] < tiers[skill] for name in build) < needs.get(tiers[skill], 0):
-            return False
-        for kind, wanting, names, *many in book.wants():
-            least = {"all": len(names), "any": 1, "count": sum(many)}[kind]
-            if wanting == skill and len(taken & set(names)) < least:
-                return False
-    if any(taken >= set(bar) for bar in book.bars()):
-        return False
-    return len(build) <= book.points + sum(give for name, give in book.gives() if name in taken)
 
 
 class IsGoodTest(unittest.TestCase):

@@ -34,7 +34,26 @@ INTERFACE = {
             within is_good __eq__
         """.split(),
     },
+    "holding": {
+        "holds": [], "lacks": [], "is_met": [], "size_let": [], "steps": [], "behind": [], "price_of_step": [],
+    },
+    "growing": {"looks_down": [], "is_plain": [], "is_bare": [], "ground": [], "is_grown": [], "growth": []},
+    "reach": {
+        "reached": [], "comes": [], "knots": [], "way_to": [], "fewest_points": [], "closed_without": [],
+    },
+    "sparing": {
+        "spare_way": [], "is_way": [], "way_price": [], "way_end": [], "way_back": [],
+        "Walk": """
+            __init__ __call__ __iadd__ back now done cost __contains__ __len__ listed twin __eq__ trial trying
+        """.split(),
+    },
 }
+
+# What a file may import that is not of the package, by the module that has it.
+LIBRARY = {"heapq": ["heappush", "heappop", "heapify", "heapreplace", "heappushpop"]}
+
+# Where the call of a generator may stand: it is iterated on the spot.
+ITERATING = ["list", "tuple", "dict", "sorted", "sum", "min", "max", "any", "all", "enumerate", "zip"]
 
 DEFINED = (ast.FunctionDef, ast.ClassDef)
 
@@ -94,6 +113,9 @@ class NamesTest(unittest.TestCase):
         for name, tree in trees().items():
             for node in imports_of(tree):
                 self.assertIsInstance(node, ast.ImportFrom, name)
+                if node.module in LIBRARY:
+                    self.assertEqual([one.name for one in node.names if one.name not in LIBRARY[node.module]], [])
+                    continue
                 package, _, file = node.module.partition(".")
                 self.assertEqual((package, node.level), ("refundtrees", 0), name)
                 for alias in node.names:
@@ -101,7 +123,10 @@ class NamesTest(unittest.TestCase):
                     self.assertIsNone(alias.asname, name)
 
     def test_no_two_files_import_from_each_other(self):
-        wanted = {name: {node.module.partition(".")[2] for node in imports_of(tree)} for name, tree in trees().items()}
+        wanted = {
+            name: {node.module.partition(".")[2] for node in imports_of(tree) if node.module not in LIBRARY}
+            for name, tree in trees().items()
+        }
         while wanted:
             free = [name for name, others in wanted.items() if not others & set(wanted)]
             self.assertTrue(free, wanted)
@@ -116,6 +141,15 @@ class NamesTest(unittest.TestCase):
                 self.assertNotIn(node.id, meant, name)
         for name, node in walked(ast.arg):
             self.assertNotIn(node.arg, meant, name)
+
+    def test_no_local_name_is_that_of_an_import_or_a_definition_of_its_file(self):
+        for name, tree in trees().items():
+            taken = {alias.asname or alias.name for node in imports_of(tree) for alias in node.names}
+            taken |= {node.name for node in tree.body if isinstance(node, DEFINED)}
+            inside = [node for top in tree.body if isinstance(top, DEFINED) for node in ast.walk(top)]
+            local = {node.id for node in inside if isinstance(node, ast.Name) and isinstance(node.ctx, ast.Store)}
+            local |= {node.arg for node in inside if isinstance(node, ast.arg)}
+            self.assertEqual(local & taken, set(), name)
 
     def test_no_comprehension_stands_bare_in_any_all_and_sum(self):
         self.assertEqual(walked(ast.GeneratorExp), [])
@@ -134,6 +168,36 @@ class NamesTest(unittest.TestCase):
         for name, node in walked(ast.Compare):
             if isinstance(node.ops[0], (ast.Is, ast.IsNot)):
                 self.assertIn(ast.unparse(node.comparators[0]), ("None", "True", "False"), name)
+
+
+class StatementsTest(unittest.TestCase):
+    def test_nothing_is_added_to_in_place_while_walks_are(self):
+        self.assertEqual(walked(ast.AugAssign), [])
+
+    def test_generators_are_iterated_on_the_spot_and_have_a_name_of_their_own(self):
+        made = [node.name for _, node in walked(ast.FunctionDef) if any(
+            isinstance(part, (ast.Yield, ast.YieldFrom)) for part in ast.walk(node))]
+        self.assertEqual(made, ["steps"])
+        self.assertEqual([node.name for _, node in walked(DEFINED) if node.name in made], made)
+        spots = [node.iter for _, node in walked((ast.For, ast.comprehension))]
+        spots += [node.args[0] for _, node in walked(ast.Call)
+                  if isinstance(node.func, ast.Name) and node.func.id in ITERATING and node.args]
+        for name, node in walked(ast.Name):
+            if node.id in made:
+                calls = [spot for spot in spots if isinstance(spot, ast.Call) and spot.func is node]
+                self.assertEqual(len(calls), 1, name)
+
+    def test_the_end_of_a_with_block_is_plain(self):
+        allowed = (ast.If, ast.Assign, ast.Compare, ast.BoolOp, ast.UnaryOp, ast.Attribute, ast.Name, ast.Constant,
+                   ast.expr_context, ast.boolop, ast.Not, ast.Is, ast.IsNot)
+        ends = [node for _, node in walked(ast.FunctionDef) if node.name == "__exit__"]
+        self.assertEqual(len(ends), 1)
+        for node in [node for end in ends for row in end.body for node in ast.walk(row)]:
+            self.assertIsInstance(node, allowed)
+
+    def test_only_own_errors_are_caught(self):
+        for name, node in walked(ast.ExceptHandler):
+            self.assertIn(ast.unparse(node.type), INTERFACE["errors"], name)
 
 
 class InterfaceTest(unittest.TestCase):

@@ -99,3 +99,86 @@ def random_book(seed):
         prices=[(name, dice.randint(0, 9)) for name in names if dice.random() < 0.5],
         reset=dice.choice([None, 0, 3]),
     )
+
+
+def random_plain_book(seed):
+    """A plain book of two to five skills; the same one for the same seed."""
+    dice = random.Random(seed)
+    names = NAMES[: dice.randint(2, 5)]
+    tiers = sorted(dice.randint(1, 3) for _ in names)
+    wants = []
+    for _ in range(dice.randint(0, 3)):
+        at = dice.randint(1, len(names) - 1)
+        wants.append(("all", names[at], tuple(dice.sample(names[:at], dice.randint(1, min(2, at))))))
+    return Book(
+        list(zip(names, tiers)),
+        dice.randint(0, len(names)),
+        needs=[(tier, dice.randint(0, 2)) for tier in (2, 3) if dice.random() < 0.7],
+        wants=wants,
+        prices=[(name, dice.randint(0, 9)) for name in names if dice.random() < 0.7],
+        reset=dice.choice([None, 0, 3, 9]),
+    )
+
+
+def random_books(many):
+    """As many books of every sort as told, and half as many plain ones."""
+    return [random_book(seed) for seed in range(many)] + [random_plain_book(seed) for seed in range(many // 2)]
+
+
+def knot_book():
+    """The book of the document in which ("a", "b") can be come to, and not by takes alone."""
+    return Book(flat(3), 3, wants=[("any", "a", ("b", "c")), ("any", "b", ("a", "c"))])
+
+
+def trap_book(reset=None):
+    """A book in which no way without a reset leads from ("a", "b") to anywhere, or from anywhere to it."""
+    return Book(flat(3), 3, wants=[("all", "a", ("b",)), ("all", "b", ("a",))], bars=[("a", "c")], reset=reset)
+
+
+def twelve_book():
+    """A book of twelve skills with some of everything."""
+    return Book(
+        [(name, 1 + place // 3) for place, name in enumerate(NAMES)],
+        8,
+        needs=[(2, 2), (3, 4), (4, 6)],
+        wants=[("all", "d", ("a",)), ("any", "e", ("b", "c")), ("count", "f", ("a", "b", "c"), 2),
+               ("all", "g", ("d",)), ("any", "h", ("d", "e", "l")), ("all", "l", ("a", "b"))],
+        bars=[("a", "k"), ("b", "j")],
+        gives=[("c", 2), ("f", 1)],
+        prices=[("a", 4), ("d", 0), ("e", 7), ("l", 99)],
+        reset=9,
+    )
+
+
+def twelve_plain_book():
+    """A plain book of twelve skills."""
+    return Book(
+        [(name, 1 + place // 4) for place, name in enumerate(NAMES)],
+        7,
+        needs=[(2, 2), (3, 4)],
+        wants=[("all", "d", ("a", "b")), ("all", "f", ("e",)), ("all", "i", ("e", "a"))],
+        prices=[("a", 4), ("d", 0), ("e", 7), ("l", 99)],
+        reset=9,
+    )
+
+
+def no_builds(names):
+    """Values that are no builds of a book of some skills, at least two."""
+    first, second = names[:2]
+    return odd_values() + [
+        "", first, 0, 1, [], [first], list(names), (second, first), (first, first), (first, second, first), ("x",),
+        (first, "x"), ("",), (first.upper(),), (None,), (True,), (0,), ([first],), ((first,),), (first, [second]),
+        {first: 1}, (first,) * 100, (first + second,), (b"a",), (Everything(),), (first, Nothing()), ((),),
+    ]
+
+
+def no_steps():
+    """Values that are no step in any book."""
+    return odd_values() + [
+        "", "take", "reset", "a", 0, 1, [], (), ["take", "a"], ["give", "b"], ["reset"], ("take",), ("give",),
+        ("take", "a", "b"), ("give", "b", 1), ("take", "a", None), ("reset", "a"), ("reset", None), ("reset", ""),
+        ("take", "x"), ("give", "x"), ("take", ""), ("take", "A"), ("take", None), ("take", 0), ("take", True),
+        ("take", ("a",)), ("take", ["a"]), ("Take", "a"), ("a", "take"), ("", "a"), (None, "a"), (0, "a"), (None,),
+        (("take", "a"),), [("take", "a")], (Everything(),), ("take", Everything()), (Everything(), "a"),
+        (Everything(), Everything()), ("take", Nothing()), (Nothing(), "a"), (b"take", "a"), {"take": "a"},
+    ]

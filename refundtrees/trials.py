@@ -1,0 +1,22 @@
+"""Trials: blocks behind which what was played is as it was ahead of them, unless they are kept."""
+
+
+class Trial:
+    """Used once with `with`; gives what is played, all that changes of which is its attribute _state."""
+
+    def __init__(self, played):
+        self._played = played
+        self._ahead = None
+        self._kept = False
+
+    def keep(self):
+        """What was done stays, if no exception leaves the block."""
+        self._kept = True
+
+    def __enter__(self):
+        self._ahead = self._played._state
+        return self._played
+
+    def __exit__(self, kind, value, trace):
+        if kind is not None or not self._kept:
+            self._played._state = self._ahead

@@ -1,0 +1,100 @@
+"""The document once more, read straight off its words, to hold the package against: slow, and without masks."""
+
+from tests_kit import all_builds
+
+
+def is_want_met(build, want):
+    kind, _, names, *many = want
+    least = {"all": len(names), "any": 1, "count": sum(many)}[kind]
+    return len(set(build) & set(names)) >= least
+
+
+def is_tier_met(book, build, skill):
+    tiers, needs = dict(book.skills()), dict(book.needs())
+    return sum(tiers[name] < tiers[skill] for name in build) >= needs.get(tiers[skill], 0)
+
+
+def is_met(book, build, skill):
+    wants = [want for want in book.wants() if want[1] == skill]
+    return is_tier_met(book, build, skill) and all(is_want_met(build, want) for want in wants)
+
+
+def points_let(book, build):
+    return book.points + sum(points for skill, points in book.gives() if skill in build)
+
+
+def holds(book, build):
+    """[2]."""
+    if any(set(build) >= set(bar) for bar in book.bars()) or len(build) > points_let(book, build):
+        return False
+    return all(is_met(book, build, skill) for skill in build)
+
+
+def good_builds(book):
+    """All builds that hold, in the order of [12]."""
+    return [build for build in all_builds(book.names()) if holds(book, build)]
+
+
+def moves(book, build):
+    """[3]: each step that is possible, in order: (step, price, build behind it)."""
+    takes, gives = [], []
+    prices = dict(book.prices())
+    for skill in book.names():
+        behind = tuple(name for name in book.names() if (name in build) != (name == skill))
+        if holds(book, behind):
+            if skill in build:
+                gives.append((("give", skill), prices.get(skill, 1), behind))
+            else:
+                takes.append((("take", skill), 0, behind))
+    resets = [(("reset",), book.reset, ())] if book.reset is not None and build != () else []
+    return takes + gives + resets
+
+
+def all_moves(book):
+    """The moves at each build that holds."""
+    return {build: moves(book, build) for build in good_builds(book)}
+
+
+def come_from(table, start, kinds=("take", "give")):
+    """The builds that steps of some kinds lead to, in the order of [12]."""
+    come, fresh = {start}, [start]
+    while fresh:
+        fresh = [behind for build in fresh for step, _, behind in table[build] if step[0] in kinds]
+        fresh = list(set(fresh) - come)
+        come.update(fresh)
+    return [build for build in table if build in come]
+
+
+def least_to(table, goal, cost=lambda step, price: price):
+    """The least cost to a build from each build from which ways lead, each step of some cost, or None for no step."""
+    least, changed = {goal: 0}, True
+    while changed:
+        changed = False
+        for build, rows in table.items():
+            for step, price, behind in rows:
+                if behind in least and cost(step, price) is not None:
+                    told = least[behind] + cost(step, price)
+                    if told < least.get(build, told + 1):
+                        least[build], changed = told, True
+    return least
+
+
+def played(table, build, way):
+    """The price and the end of a way, or None if it is none."""
+    cost = 0
+    for step in way:
+        rows = [(price, behind) for told, price, behind in table[build] if told == step]
+        if len(rows) != 1:
+            return None
+        cost, build = cost + rows[0][0], rows[0][1]
+    return cost, build
+
+
+def without_reset(step, price):
+    """Each step is one, and there are no resets: what least_to tells is the fewest steps."""
+    return None if step == ("reset",) else 1
+
+
+def give_backs(step, price):
+    """Gives alone count, and there are no resets."""
+    return {"take": 0, "give": 1, "reset": None}[step[0]]
