@@ -4,10 +4,15 @@ SMALL_LETTERS = "abcdefghijklmnopqrstuvwxyz"
 LONGEST_WORD = 8
 
 
+def is_number(value):
+    """Whether any value is a number."""
+    # True and False are ints to Python, but nowhere numbers here.
+    return isinstance(value, int) and not isinstance(value, bool)
+
+
 def is_number_in(value, low, high):
     """Whether any value is a number from low to high."""
-    # True and False are ints to Python, but nowhere numbers here.
-    return isinstance(value, int) and not isinstance(value, bool) and low <= value <= high
+    return is_number(value) and low <= value <= high
 
 
 def is_word(value):

@@ -156,6 +156,11 @@ class GrowthTest(unittest.TestCase):
         grown = again.come_from(table, (), ("take",))
         self.assertEqual([build for build in table if is_grown(book, build)], grown)
 
+    def test_a_build_of_twelve_that_is_not_grown(self):
+        # There are far too many orders of the ten others to try each of them.
+        wants = [("all", "k", ("l",)), ("all", "l", ("k",))]
+        self.assertIsNone(growth(Book(flat(12), 12, wants=wants), tuple(NAMES)))
+
     def test_a_new_list_each_time(self):
         told = growth(full_book(), ("a",))
         told.clear()

@@ -47,6 +47,12 @@ INTERFACE = {
             __init__ __call__ __iadd__ back now done cost __contains__ __len__ listed twin __eq__ trial trying
         """.split(),
     },
+    "prices": {
+        "plain_price": [], "plain_way": [], "is_tight": [], "least_price": [], "least_way": [], "potentials": [],
+    },
+    "papers": {"way_paper": [], "never_paper": [], "paper_of": [], "accepts": []},
+    "bounds": {"fewest_gives": [], "is_open": []},
+    "notes": {"write_book": [], "read_book": [], "write_build": [], "read_build": []},
 }
 
 # What a file may import that is not of the package, by the module that has it.

@@ -237,6 +237,11 @@ class EqualTest(WalkTestCase):
         self.assertNotEqual(one, other)
         self.assertNotEqual(Walk(book_of_ways(), ("a",)), walked([("take", "a")]))
 
+    def test_the_first_build_counts_where_nothing_was_done(self):
+        self.assertEqual(Walk(book_of_ways(), ("a",)), Walk(book_of_ways(), ("a",)))
+        self.assertNotEqual(Walk(book_of_ways(), ("a",)), Walk(book_of_ways(), ("b",)))
+        self.assertNotEqual(Walk(book_of_ways(), ("a",)), Walk(book_of_ways()))
+
     def test_walks_equal_nothing_else(self):
         for other in odd_values() + [mock.ANY, WAY, tuple(WAY), [], (), "", 0, book_of_ways(), walked().now()]:
             self.assertIs(walked() == other, False)

@@ -98,3 +98,21 @@ def without_reset(step, price):
 def give_backs(step, price):
     """Gives alone count, and there are no resets."""
     return {"take": 0, "give": 1, "reset": None}[step[0]]
+
+
+def is_right(table, paper):
+    """[9], of a paper whose note is that of the book of the table, and whose other parts are of the right kinds."""
+    kind, _, one, other = paper[:4]
+    if kind == "never":
+        builds = paper[4]
+        closed = all(behind in builds for build in builds for _, _, behind in table[build])
+        return one in builds and other not in builds and closed
+    way, numbers = paper[4:]
+    told = dict(numbers)
+    if played(table, one, way) is None or len(told) != len(numbers):
+        return False
+    price, end = played(table, one, way)
+    if end != other or told.get(one) != price or told.get(other) != 0:
+        return False
+    rows = [(build, price, behind) for build in told for _, price, behind in table[build]]
+    return all(behind in told and price + told[behind] >= told[build] for build, price, behind in rows)
