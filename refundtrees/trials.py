@@ -7,7 +7,8 @@ class Trial:
     def __init__(self, played):
         self._played = played
         self._ahead = None
-        self._kept = False
+        # None or True: what is asked when a block is left is asked by `is None` alone.
+        self._kept = None
 
     def keep(self):
         """What was done stays, if no exception leaves the block."""
@@ -18,5 +19,5 @@ class Trial:
         return self._played
 
     def __exit__(self, kind, value, trace):
-        if kind is not None or not self._kept:
+        if kind is not None or self._kept is None:
             self._played._state = self._ahead

@@ -194,12 +194,19 @@ class StatementsTest(unittest.TestCase):
                 self.assertEqual(len(calls), 1, name)
 
     def test_the_end_of_a_with_block_is_plain(self):
-        allowed = (ast.If, ast.Assign, ast.Compare, ast.BoolOp, ast.UnaryOp, ast.Attribute, ast.Name, ast.Constant,
-                   ast.expr_context, ast.boolop, ast.Not, ast.Is, ast.IsNot)
+        allowed = (ast.If, ast.Assign, ast.Compare, ast.BoolOp, ast.Attribute, ast.Name, ast.Constant,
+                   ast.expr_context, ast.boolop, ast.Is, ast.IsNot)
         ends = [node for _, node in walked(ast.FunctionDef) if node.name == "__exit__"]
         self.assertEqual(len(ends), 1)
         for node in [node for end in ends for row in end.body for node in ast.walk(row)]:
             self.assertIsInstance(node, allowed)
+
+    def test_the_end_of_a_with_block_asks_by_is_none_alone(self):
+        ends = [node for _, node in walked(ast.FunctionDef) if node.name == "__exit__"]
+        for choice in [node for end in ends for node in ast.walk(end) if isinstance(node, ast.If)]:
+            tests = choice.test.values if isinstance(choice.test, ast.BoolOp) else [choice.test]
+            for asked in tests:
+                self.assertRegex(ast.unparse(asked), "^[a-z_.]+ is (not )?None$")
 
     def test_only_own_errors_are_caught(self):
         for name, node in walked(ast.ExceptHandler):
