@@ -1,7 +1,8 @@
-"""Builds that are handed in, as masks: any value that is none, or none that holds, is refused."""
+"""What is handed in, any value, and refused where it is none: builds, as masks, and how many give-backs."""
 
 from refundtrees.builds import is_build
-from refundtrees.errors import NoBuild
+from refundtrees.errors import NoBuild, NoNumber
+from refundtrees.words import is_number
 
 
 def mask_of_build(rules, build):
@@ -21,3 +22,9 @@ def mask_of_held(rules, build):
     if not is_held(rules, build):
         raise NoBuild(build)
     return rules.mask_of(build)
+
+
+def must_be_many(many):
+    """Raises NoNumber(many) unless any value is how many give-backs are let, a number from 0."""
+    if not is_number(many) or many < 0:
+        raise NoNumber(many)

@@ -36,6 +36,12 @@ def grown_masks(rules):
     return grown
 
 
+def by_give_backs(rules, goal):
+    """How the ways without a reset to a goal with the fewest give-backs begin."""
+    # Where each give costs one, the price of a way is how many it has.
+    return Leads(rules, goal, {bit: 1 for bit in rules.bits}, None)
+
+
 class Leads:
     """How the cheapest ways to a goal begin, and of those the ones with the fewest steps."""
 
@@ -73,6 +79,11 @@ class Leads:
     def price_from(self, mask):
         """The least price of a way from a mask to the goal, or None."""
         return self._begun[mask][0] if mask in self._begun else None
+
+    def is_within(self, mask, most):
+        """Whether a way of at most such a price leads from a mask to the goal."""
+        price = self.price_from(mask)
+        return price is not None and price <= most
 
     def way_from(self, mask):
         """A cheapest way from a mask to the goal, or None."""

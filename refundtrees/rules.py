@@ -65,13 +65,18 @@ class Rules:
         """The words, in order, of what some skills ask for and a mask does not have: "tier", kinds of wants."""
         return [word for word, one, whom, many in self._asks if one & who and size_of(mask & whom) < many]
 
+    def barred(self, mask):
+        """The first bar that has both of its skills in a mask, as a mask, or 0."""
+        both = [bar for bar in self._bars if mask & bar == bar]
+        return both[0] if both else 0
+
     def points_let(self, mask):
         """The points of the book, and those that the skills of a mask give, for themselves too."""
         return self.book.points + sum([points for bit, points in self._gives if mask & bit])
 
     def is_good(self, mask):
         """Whether the build of a mask holds."""
-        if size_of(mask) > self.points_let(mask) or any([mask & bar == bar for bar in self._bars]):
+        if size_of(mask) > self.points_let(mask) or self.barred(mask):
             return False
         return not self.unmet(mask, mask)
 

@@ -53,10 +53,19 @@ INTERFACE = {
     "papers": {"way_paper": [], "never_paper": [], "paper_of": [], "accepts": []},
     "bounds": {"fewest_gives": [], "is_open": []},
     "notes": {"write_book": [], "read_book": [], "write_build": [], "read_build": []},
+    "wishes": {"open_wishes": [], "free_takes": [], "waits": [], "levels": []},
+    "carrying": {"carried": [], "is_trap": [], "traps": [], "never_traps": [], "lost": []},
+    "greatest": {"worth_of": [], "greatest": [], "greatest_come": [], "best_by_size": []},
+    "counting": {
+        "all_builds": [], "how_many": [], "by_size": [], "build_at": [], "number_of": [], "bare_count": [],
+    },
 }
 
 # What a file may import that is not of the package, by the module that has it.
-LIBRARY = {"heapq": ["heappush", "heappop", "heapify", "heapreplace", "heappushpop"]}
+LIBRARY = {
+    "heapq": ["heappush", "heappop", "heapify", "heapreplace", "heappushpop"],
+    "math": ["gcd", "lcm", "isqrt", "comb", "perm", "factorial"],
+}
 
 # Where the call of a generator may stand: it is iterated on the spot.
 ITERATING = ["list", "tuple", "dict", "sorted", "sum", "min", "max", "any", "all", "enumerate", "zip"]
@@ -183,7 +192,7 @@ class StatementsTest(unittest.TestCase):
     def test_generators_are_iterated_on_the_spot_and_have_a_name_of_their_own(self):
         made = [node.name for _, node in walked(ast.FunctionDef) if any(
             isinstance(part, (ast.Yield, ast.YieldFrom)) for part in ast.walk(node))]
-        self.assertEqual(made, ["steps"])
+        self.assertEqual(made, ["all_builds", "steps"])
         self.assertEqual([node.name for _, node in walked(DEFINED) if node.name in made], made)
         spots = [node.iter for _, node in walked((ast.For, ast.comprehension))]
         spots += [node.args[0] for _, node in walked(ast.Call)

@@ -116,3 +116,46 @@ def is_right(table, paper):
         return False
     rows = [(build, price, behind) for build in told for _, price, behind in table[build]]
     return all(behind in told and price + told[behind] >= told[build] for build, price, behind in rows)
+
+
+def open_wishes(table, build, wishes, many):
+    """[10], of builds that hold."""
+    return [wish for wish in wishes if least_to(table, wish, give_backs).get(build, many + 1) <= many]
+
+
+def free_takes(table, build, wishes, many):
+    takes = [(step[1], behind) for step, _, behind in table[build] if step[0] == "take"]
+    return [skill for skill, behind in takes if open_wishes(table, behind, wishes, many) == list(wishes)]
+
+
+def carried(old, new, build, kind):
+    """[11]."""
+    rest = tuple(skill for skill in new.names() if skill in build)
+    return {"keep": lambda: rest, "fall": lambda: fallen(new, rest), "grown": lambda: grown_part(new, rest)}[kind]()
+
+
+def fallen(book, build):
+    loose = [skill for skill in build if not is_met(book, build, skill)]
+    barred = [bar for bar in book.bars() if set(bar) <= set(build)]
+    if loose:
+        going = loose
+    elif barred:
+        going = [max(barred[0], key=book.names().index)]
+    elif len(build) > points_let(book, build):
+        going = [build[-1]]
+    else:
+        return build
+    return fallen(book, tuple(skill for skill in build if skill not in going))
+
+
+def grown_part(book, build, taken=()):
+    for skill in build:
+        more = tuple(name for name in book.names() if name in taken or name == skill)
+        if skill not in taken and holds(book, more):
+            return grown_part(book, build, more)
+    return taken
+
+
+def traps(table):
+    come = come_from(table, ())
+    return [build for build in table if build not in come]

@@ -125,6 +125,33 @@ def random_books(many):
     return [random_book(seed) for seed in range(many)] + [random_plain_book(seed) for seed in range(many // 2)]
 
 
+def renamed(book, names):
+    """A book with other names, told as a dict from the old ones, and its skills of each tier the other way about."""
+    def pick(skills):
+        return tuple(names[skill] for skill in skills)
+
+    return Book(
+        sorted(((names[name], tier) for name, tier in reversed(book.skills())), key=lambda row: row[1]),
+        book.points,
+        needs=book.needs(),
+        wants=[(want[0], names[want[1]], pick(want[2]), *want[3:]) for want in book.wants()],
+        bars=[pick(bar) for bar in book.bars()],
+        gives=[(names[skill], points) for skill, points in book.gives()],
+        prices=[(names[skill], price) for skill, price in book.prices()],
+        reset=book.reset,
+    )
+
+
+def random_pairs(many):
+    """As many pairs of books, of which the second one has some of the skills of the first, and others."""
+    pairs = []
+    for seed in range(many):
+        new = random_book(seed + 5000)
+        names = random.Random(seed).sample(NAMES[:6], len(new))
+        pairs.append((random_book(seed + 9000), renamed(new, dict(zip(new.names(), names)))))
+    return pairs
+
+
 def knot_book():
     """The book of the document in which ("a", "b") can be come to, and not by takes alone."""
     return Book(flat(3), 3, wants=[("any", "a", ("b", "c")), ("any", "b", ("a", "c"))])
