@@ -2,25 +2,18 @@
 
 from refundtrees.errors import NoBuild
 from refundtrees.rules import Rules
-from refundtrees.words import are_unlike, is_one_of
+from refundtrees.words import are_unlike, is_one_of, is_ordered
 
 
 def is_build(book, value):
     """Whether any value is a build of a book."""
-    if not isinstance(value, tuple) or not are_unlike(book.names(), value):
-        return False
-    return value == in_order(book, value)
+    return is_ordered(book.names(), value)
 
 
 def build_of(book, skills):
     """The build of a list or tuple of unlike skills of the book, in any order."""
     if not isinstance(skills, (list, tuple)) or not are_unlike(book.names(), skills):
         raise NoBuild(skills)
-    return in_order(book, skills)
-
-
-def in_order(book, skills):
-    """Some skills of a book, in its order."""
     return tuple([name for name in book.names() if name in skills])
 
 

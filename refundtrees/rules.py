@@ -35,7 +35,8 @@ class Rules:
         self.bits = tuple([1 << place for place in reversed(range(len(book)))])
         self._bit_by_name = dict(zip(book.names(), self.bits))
         self._name_by_bit = dict(zip(self.bits, book.names()))
-        self._asks = self._tier_asks() + self._want_asks()
+        self._wanted = self._want_asks()
+        self._asks = self._tier_asks() + self._wanted
         self._bars = [self.mask_of(bar) for bar in book.bars()]
         self._gives = [(self._bit_by_name[skill], points) for skill, points in book.gives()]
 
@@ -69,6 +70,13 @@ class Rules:
         """The first bar that has both of its skills in a mask, as a mask, or 0."""
         both = [bar for bar in self._bars if mask & bar == bar]
         return both[0] if both else 0
+
+    def unmet_wants(self, mask):
+        """The indexes of the wants of a mask's skills that it does not meet."""
+        return [
+            index for index, (_, one, whom, many) in enumerate(self._wanted)
+            if one & mask and size_of(mask & whom) < many
+        ]
 
     def points_let(self, mask):
         """The points of the book, and those that the skills of a mask give, for themselves too."""

@@ -4,7 +4,7 @@ from refundtrees.checks import mask_of_held
 from refundtrees.errors import NoBuild, NoPlain, NoStep, NothingBack, NoWay
 from refundtrees.growing import is_plain
 from refundtrees.rules import RESET, Rules, size_of
-from refundtrees.trials import Trial
+from refundtrees.trials import Trial, tried_out
 from refundtrees.words import is_number_in
 
 
@@ -150,12 +150,7 @@ class Walk:
 
     def trying(self, guest, *, kept=False):
         """What a guest returns that is called with this walk within a trial, which is kept if kept is True."""
-        trial = self.trial()
-        with trial as walk:
-            told = guest(walk)
-            if kept is True:
-                trial.keep()
-        return told
+        return tried_out(self, guest, kept)
 
     def _mask(self):
         return end_of_hops(self._rules, self._start, self._state)

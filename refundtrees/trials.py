@@ -21,3 +21,13 @@ class Trial:
     def __exit__(self, kind, value, trace):
         if kind is not None or self._kept is None:
             self._played._state = self._ahead
+
+
+def tried_out(played, guest, kept):
+    """What a guest returns that is called with what is played within a trial, which is kept if kept is True."""
+    trial = Trial(played)
+    with trial as given:
+        told = guest(given)
+        if kept is True:
+            trial.keep()
+    return told

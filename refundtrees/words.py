@@ -28,6 +28,13 @@ def is_one_of(names, value):
     return isinstance(value, str) and value in names
 
 
+def is_ordered(names, value):
+    """Whether any value is a tuple of some of the names, unlike and in their order."""
+    if not isinstance(value, tuple) or not are_unlike(names, value):
+        return False
+    return value == tuple([name for name in names if name in value])
+
+
 def are_unlike(names, values):
     """Whether all items of a list or tuple are names, and none stands there twice."""
     if len(values) > len(names) or not all([is_one_of(names, value) for value in values]):

@@ -2,6 +2,7 @@
 
 import ast
 import builtins
+import functools
 import pathlib
 import unittest
 
@@ -59,6 +60,15 @@ INTERFACE = {
     "counting": {
         "all_builds": [], "how_many": [], "by_size": [], "build_at": [], "number_of": [], "bare_count": [],
     },
+    "idling": {"idle_wants": [], "is_enough": [], "least_wants": [], "alike": [], "is_under": []},
+    "told": {"is_seen": [], "explains": [], "greatest_wants": [], "must": [], "may": [], "next_ask": []},
+    "live": {
+        "Player": """
+            __init__ points carry carry_by now spent asks take give restart raise_to move_to undo __len__ twin trial
+            trying
+        """.split(),
+    },
+    "console": {"Console": ["__init__", "run"]},
 }
 
 # What a file may import that is not of the package, by the module that has it.
@@ -77,6 +87,7 @@ def files():
     return [path for path in sorted(FOLDER.iterdir()) if path.name != "__pycache__"]
 
 
+@functools.cache
 def trees():
     return {path.stem: ast.parse(path.read_text(encoding="utf-8")) for path in files()}
 
@@ -148,7 +159,8 @@ class NamesTest(unittest.TestCase):
             wanted = {name: others for name, others in wanted.items() if name not in free}
 
     def test_only_the_told_builtins_are_used_and_none_is_given_another_meaning(self):
-        meant = set(dir(builtins))
+        # Examples that were run ahead leave their last value there as "_".
+        meant = set(dir(builtins)) - {"_"}
         for name, node in walked(ast.Name):
             if isinstance(node.ctx, ast.Load):
                 self.assertIn(node.id, BUILTINS if node.id in meant else [node.id], name)

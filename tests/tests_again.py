@@ -1,5 +1,7 @@
 """The document once more, read straight off its words, to hold the package against: slow, and without masks."""
 
+import itertools
+
 from tests_kit import all_builds
 
 
@@ -159,3 +161,27 @@ def grown_part(book, build, taken=()):
 def traps(table):
     come = come_from(table, ())
     return [build for build in table if build not in come]
+
+
+def reached(book):
+    return come_from(all_moves(book), ())
+
+
+def is_enough(book, indexes):
+    """[14]."""
+    wants = [want for index, want in enumerate(book.wants()) if index in indexes]
+    return reached(book.changed(wants=wants)) == reached(book)
+
+
+def least_wants(book):
+    indexes = range(len(book.wants()))
+    sets = [part for size in range(len(indexes) + 1) for part in itertools.combinations(indexes, size)]
+    enough = [part for part in sets if is_enough(book, part)]
+    return [part for part in enough if not any(set(other) < set(part) for other in enough)]
+
+
+def right_wants(names, seen, skill):
+    """[13]: all tuples that a skill can want, by what was let."""
+    others = [name for name in names if name != skill]
+    rows = [(set(build), let) for build, asked, let in seen if asked == skill]
+    return [want for want in all_builds(others) if all((set(want) <= build) is let for build, let in rows)]
